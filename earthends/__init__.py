@@ -1,0 +1,1 @@
+"""Earthends: leaks of a long cable found from its two ends."""
