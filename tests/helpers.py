@@ -23,7 +23,7 @@ def nested(depth):
     return x
 
 
-# None of these is a fraction, a cable, leaks with a leak, a stretch, a word, a reading or a place.
+# None of these is a fraction, a cable, leaks, a stretch, a word, a reading or a place.
 ODD = (
     None, True, False, 0, 1, -1, 10 ** 60, "", "1", "1/2", "back 0", b"", b"west free", [], [1, 2], [(1, 1)], (1,),
     (1, 2, 3), {}, {"a": 1}, {1: 2}, {1, 2}, set(), frozenset(), Thing(), Thing, len, range(3), nested(10), [[[[]]]],
@@ -31,6 +31,11 @@ ODD = (
     (None, 1), ([1], [2]), (1, [2]), ([1], 2), ((1, 1), (1, 1)), ((1, 1), 1), ((), ()), ({}, {}), (b"1", b"2"),
     (2, 4), (-2, 4), (0, 2), (0, 0), (1, 0), (-1, 0), (1, -2), (-1, -2), (0, -1), (3, 3), (10 ** 59, 10), (1, 2, 1),
     [1, 2], [0, 1], "12", ("a", "b", "c"), (None, None, None),
+)
+WRONG_WORDS = (
+    "", " ", "west", "free", "earth", "westfree", "west  free", "west free ", " west free", "West free", "WEST FREE",
+    "west Free", "west_free", "free west", "west loop", "Loop", "loop ", "loop free", "north free", "west frees", "west\nfree",
+    b"loop", ("west", "free"), ["west free"], ("loop",), {"loop": 1}, {"loop"},
 )
 
 
@@ -108,3 +113,58 @@ def some_place(rand, cable):
 def replaced(x, at, part):
     """The tuple x with another part at one place."""
     return x[:at] + (part,) + x[at + 1:]
+
+
+def some_leaks(rand, cable, many):
+    places = set()
+    while len(places) < many:
+        places.add(num(some_place(rand, cable)))
+    drags = [Fraction(rand.randint(1, 10 ** rand.choice((1, 3, 40))), rand.randint(1, 10 ** rand.choice((1, 2, 40))))
+             for _ in places]
+    return tuple((frac(place), frac(drag)) for place, drag in zip(sorted(places), drags))
+
+
+def resistance(edges, start, end):
+    """What a net of edges (A, B, DRAG) drags from one node to another, None without a way: Kirchhoff's rule, solved."""
+    reached, grown = {start}, True
+    while grown:
+        more = {a for a, b, _ in edges if b in reached} | {b for a, b, _ in edges if a in reached}
+        grown = not more <= reached
+        reached |= more
+    if end not in reached:
+        return None
+    nodes = sorted(reached - {end}, key=str)
+    rows = {node: {other: Fraction(0) for other in nodes} | {"fed": Fraction(int(node == start))} for node in nodes}
+    for a, b, drag in edges:
+        for one, other in ((a, b), (b, a)):
+            if one in rows:
+                rows[one][one] += 1 / drag
+                if other in rows:
+                    rows[one][other] -= 1 / drag
+    for node in nodes:
+        row = {key: part / rows[node][node] for key, part in rows[node].items()}
+        rows[node] = row
+        for other in nodes:
+            if other != node and rows[other][node] != 0:
+                factor = rows[other][node]
+                rows[other] = {key: part - factor * row[key] for key, part in rows[other].items()}
+    return rows[start]["fed"]
+
+
+def reads(cable, leaks, word):
+    """The reading of a measure by the net of the cable itself."""
+    whole = all_drag(cable)
+    drags = sorted({Fraction(0), whole} | {west_drag(cable, num(place)) for place, _ in leaks})
+    near, far = (Fraction(0), whole) if word.startswith("west") else (whole, Fraction(0))
+    grounded = word.endswith("earth")
+    edges = []
+    for a, b in zip(drags, drags[1:]):
+        ends = ["earth" if grounded and point == far else point for point in (a, b)]
+        edges.append((*ends, b - a))
+    for place, drag in leaks:
+        point = west_drag(cable, num(place))
+        if not (grounded and point == far):
+            edges.append((point, "earth", num(drag)))
+    if word == "loop":
+        return num(cable[1]) + resistance(edges, Fraction(0), whole)
+    return resistance(edges, near, "earth")
