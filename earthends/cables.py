@@ -42,7 +42,12 @@ def need_cable(cable):
 def steps_of(cable):
     """All steps of a cable, a whole number."""
     need_cable(cable)
-    return sum([steps for steps, each in cable[0]])
+    return steps_ahead(cable, len(cable[0]))
+
+
+def steps_ahead(cable, number):
+    """The steps from the west end to the length with this number, from 0."""
+    return sum([steps for steps, each in cable[0][:number]])
 
 
 def drag_of(cable):
@@ -62,12 +67,7 @@ def drag_of_length(length):
 def splices_of(cable):
     """The steps from the west end to each splice, whole numbers."""
     need_cable(cable)
-    splices = []
-    west = 0
-    for steps, each in cable[0][:-1]:
-        west += steps
-        splices.append(west)
-    return tuple(splices)
+    return tuple([steps_ahead(cable, number) for number in range(1, len(cable[0]))])
 
 
 def is_place(cable, x):

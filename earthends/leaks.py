@@ -2,7 +2,7 @@
 
 from earthends.cables import is_cable, is_place
 from earthends.errors import NoLeaks
-from earthends.fractions import below, is_above_zero, is_tuple_of
+from earthends.fractions import below, is_above_zero, is_tuple_of, plus
 
 MOST_LEAKS = 6
 
@@ -28,3 +28,8 @@ def need_leaks(cable, leaks):
     """Refuse what is no leaks of this cable."""
     if not is_leaks(cable, leaks):
         raise NoLeaks("not leaks of the cable")
+
+
+def moved(leaks, steps):
+    """Leaks by places that are so many steps more."""
+    return tuple([(plus(place, (steps, 1)), drag) for place, drag in leaks])

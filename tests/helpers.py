@@ -115,6 +115,23 @@ def replaced(x, at, part):
     return x[:at] + (part,) + x[at + 1:]
 
 
+# 15 and 10 and 5 drag 30, over 35 steps.
+CABLE = (((10, (3, 2)), (5, (2, 1)), (20, (1, 4))), (7, 3))
+NO_CABLES = ODD + ((), list(CABLE), ((), (0, 1)), (CABLE[0], (-1, 1)), (CABLE[0] * 5, (0, 1)), (CABLE[0], (0, 1), 1))
+LEAKING = ((18, 1), (16, 1), (20, 1))
+NO_FRACTIONS = ((2, 4), (0, 2), (-1, -2), (1, -2), (1, 0), 1, 0, True, False, [1, 1], "1", "1/2", b"", (1,), (1, 1, 1),
+                (True, 1), (1, True), {}, (), ((1, 1), 1))
+NO_READINGS = NO_FRACTIONS + ((-1, 1), (-1, 10 ** 59))
+# Each of these has one thing amiss.
+NO_DAYS = tuple(
+    [replaced(LEAKING, at, part) for at in range(3) for part in NO_READINGS + (None,)]
+    + [replaced(LEAKING, at, (0, 1)) for at in range(2)]
+    + [(None, None, part) for part in NO_READINGS + (None,)]
+    + [(None, (1, 1), (1, 1)), ((1, 1), None, (1, 1)), (None, (0, 1), (1, 1)), (None, False, (1, 1)), (False, None, (1, 1)),
+       (0, 0, (1, 1)), ((), (), (1, 1)), (None, None), LEAKING[:2], LEAKING[1:], LEAKING + ((1, 1),),
+       (None, None, (97, 3), None), list(LEAKING), [None, None, (97, 3)], (LEAKING,), (*LEAKING[:2], LEAKING[2:]), ()]) + ODD
+
+
 def some_leaks(rand, cable, many):
     places = set()
     while len(places) < many:
@@ -168,3 +185,100 @@ def reads(cable, leaks, word):
     if word == "loop":
         return num(cable[1]) + resistance(edges, Fraction(0), whole)
     return resistance(edges, near, "earth")
+
+
+def place_of(cable, drag):
+    """The place west of which so much drags, by the ends of each length."""
+    place = Fraction(0)
+    for steps, each in cable[0]:
+        here = max(Fraction(0), min(drag, steps * num(each)))
+        place += here / num(each)
+        drag -= here
+    return place
+
+
+def small_cable(rand, many):
+    """A cable of so many lengths that drag about the same."""
+    lengths = tuple((rand.randint(1, 9), frac(Fraction(rand.randint(2, 9), rand.randint(1, 4)))) for _ in range(many))
+    return (lengths, frac(Fraction(rand.randint(0, 9), rand.randint(1, 4))))
+
+
+def small_leaks(rand, cable, many):
+    """Leaks through drags of about the cable's own."""
+    places = set()
+    while len(places) < many:
+        places.add(num(some_place(rand, cable)))
+    drags = [max(all_drag(cable) // rand.choice((1, 2, 9, 40)), 1) * Fraction(rand.randint(1, 20), rand.randint(1, 9))
+             for _ in places]
+    return tuple((frac(place), frac(drag)) for place, drag in zip(sorted(places), drags))
+
+
+def day_by(cable, west, east, earth):
+    """The readings by the numbers that the ends see, whether leaks make them or not."""
+    west, east, earth = map(Fraction, (west, east, earth))
+    return (frac(west + earth), frac(east + earth), frac(num(cable[1]) + west + east))
+
+
+def sound_day(cable):
+    return (None, None, frac(num(cable[1]) + all_drag(cable)))
+
+
+# Days of CABLE that no leaks make, and days that fewer than two make.
+WRONG_DAYS = (
+    (None, None, (1, 1)), day_by(CABLE, 15, 16, 2), day_by(CABLE, 15, 15, 0), day_by(CABLE, -1, 15, 2), day_by(CABLE, 15, -1, 2),
+    day_by(CABLE, 12, 8, 10),
+)
+NOT_OF_TWO = (sound_day(CABLE), day_by(CABLE, 16, 14, 2), day_by(CABLE, 0, 30, 2), day_by(CABLE, 30, 0, 2))
+
+
+class Curve:
+    """The pairs that make a day of two, by the drag x from the west end to the west leak."""
+
+    def __init__(self, cable, day):
+        self.cable = cable
+        self.whole = all_drag(cable)
+        west_free, east_free, loop = map(num, day)
+        back = num(cable[1])
+        earth = (west_free + east_free + back - loop) / 2
+        self.west, self.east = west_free - earth, east_free - earth
+        self.lack = back + self.whole - loop
+        self.share = earth * self.lack
+        self.greatest = self.west - self.share / self.east
+        self.least_far = self.far(Fraction(0))
+
+    def far(self, x):
+        return self.whole - self.east + self.share / (self.west - x)
+
+    def near(self, far):
+        return self.west - self.share / (self.east - self.whole + far)
+
+    def places(self, x):
+        return (place_of(self.cable, x), place_of(self.cable, self.far(x)))
+
+    def leaks(self, x):
+        between = (self.far(x) - x) / self.lack
+        west, east = self.places(x)
+        return ((frac(west), frac((self.west - x) * between)), (frac(east), frac(self.share / (self.west - x) * between)))
+
+    def samples(self):
+        """One x of each run of pairs whose leaks lie alike by the splices and the ends, growing."""
+        marks = {Fraction(0), self.greatest}
+        for steps in splice_steps(self.cable):
+            drag = west_drag(self.cable, steps)
+            if drag <= self.greatest:
+                marks.add(drag)
+            if drag >= self.least_far:
+                marks.add(self.near(drag))
+        marks = sorted(marks)
+        return sorted(marks + [(a + b) / 2 for a, b in zip(marks, marks[1:])])
+
+    def way(self, x):
+        """The lengths of both leaks, one at a splice counted to the length west of it."""
+        return tuple(sum(steps < place for steps in splice_steps(self.cable)) for place in self.places(x))
+
+
+def some_two(rand, most=6, lengths=None):
+    """A cable, small, and a day of two, the leaks often at ends and splices."""
+    from earthends.days import day_of
+    cable = small_cable(rand, rand.randint(1, most) if lengths is None else lengths)
+    return cable, day_of(cable, small_leaks(rand, cable, rand.choice((2, 2, 2, 3, 6))))

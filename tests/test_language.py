@@ -140,6 +140,16 @@ class Rows(unittest.TestCase):
                 if isinstance(node, ast.Attribute):
                     self.assertIn(node.attr, METHODS | own | stored, (path.name, node.lineno))
 
+    def test_no_name_is_a_method_and_an_attribute(self):
+        methods, stored = set(), set()
+        for _, _, tree in trees():
+            for node in ast.walk(tree):
+                if isinstance(node, ast.ClassDef):
+                    methods.update(part.name for part in node.body if isinstance(part, ast.FunctionDef))
+                if isinstance(node, ast.Attribute) and isinstance(node.ctx, ast.Store):
+                    stored.add(node.attr)
+        self.assertEqual(methods & stored, set())
+
     def test_module_level(self):
         for path, _, tree in trees():
             for at, node in enumerate(tree.body):
@@ -153,6 +163,19 @@ class Rows(unittest.TestCase):
                 if isinstance(node, ast.Raise) and node.exc is not None:
                     self.assertIsInstance(node.exc, ast.Call, (path.name, node.lineno))
                     self.assertIsInstance(node.exc.func, ast.Name, (path.name, node.lineno))
+
+
+class Interface(unittest.TestCase):
+    METHODS = {"Story": "cut tell many leaks lengths"}
+
+    def test_methods_stand_in_their_own_class(self):
+        found = {}
+        for _, _, tree in trees():
+            for node in tree.body:
+                if isinstance(node, ast.ClassDef):
+                    found[node.name] = {part.name for part in node.body if isinstance(part, ast.FunctionDef)}
+        for name, methods in self.METHODS.items():
+            self.assertLessEqual(set(methods.split()), found[name], name)
 
 
 class Imports(unittest.TestCase):
