@@ -84,7 +84,7 @@ class Story:
 
     def parted_pair(self, splice, west, east):
         """The pair that is left, is parted by this splice and makes these days, None without one."""
-        first, behind = self.piece
+        first = self.piece[0]
         kind = kind_of(piece_of(self.whole, (first, splice)), west)
         if kind[0] != "one":
             return None

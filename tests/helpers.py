@@ -5,6 +5,7 @@ from fractions import Fraction
 from math import gcd
 
 from earthends import errors
+from earthends.days import day_of
 
 CLASSES = (
     "NoNumber", "NoCable", "NoDrag", "NoText", "NoLeaks", "NoStretch", "NoWord", "NoReading", "NoPlace",
@@ -130,6 +131,12 @@ NO_DAYS = tuple(
     + [(None, (1, 1), (1, 1)), ((1, 1), None, (1, 1)), (None, (0, 1), (1, 1)), (None, False, (1, 1)), (False, None, (1, 1)),
        (0, 0, (1, 1)), ((), (), (1, 1)), (None, None), LEAKING[:2], LEAKING[1:], LEAKING + ((1, 1),),
        (None, None, (97, 3), None), list(LEAKING), [None, None, (97, 3)], (LEAKING,), (*LEAKING[:2], LEAKING[2:]), ()]) + ODD
+
+NO_NUMBERS = (-1, -2, -10 ** 59, 10 ** 59, True, False, None, "0", "1", b"0", "", (0,), (0, 1), (1, 1), [0], [], {}, {0}, ())
+NO_LENGTHS = ODD + (
+    (0, (1, 1)), (-1, (1, 1)), (1000, (1, 1)), (True, (1, 1)), (1, (0, 1)), (1, (-1, 1)), (1, (1000, 1)), (1, (1, 1000)),
+    (1, (2, 2)), (1, (True, 1)), (1, [1, 1]), [1, (1, 1)], (1, (1, 1), 1), (1,), (), ((1, (1, 1)),), (1, 1), ("1", (1, 1)),
+)
 
 
 def some_leaks(rand, cable, many):
@@ -277,8 +284,15 @@ class Curve:
         return tuple(sum(steps < place for steps in splice_steps(self.cable)) for place in self.places(x))
 
 
+def two_at_splices(rand, most):
+    """A cable, small, the places of two leaks at its ends and splices, and their day."""
+    cable = small_cable(rand, rand.randint(2, most))
+    places = sorted(rand.sample([0, all_steps(cable)] + splice_steps(cable), 2))
+    drags = [drag for _, drag in small_leaks(rand, cable, 2)]
+    return cable, places, day_of(cable, tuple(((place, 1), drag) for place, drag in zip(places, drags)))
+
+
 def some_two(rand, most=6, lengths=None):
     """A cable, small, and a day of two, the leaks often at ends and splices."""
-    from earthends.days import day_of
     cable = small_cable(rand, rand.randint(1, most) if lengths is None else lengths)
     return cable, day_of(cable, small_leaks(rand, cable, rand.choice((2, 2, 2, 3, 6))))

@@ -7,8 +7,8 @@ from earthends.leaks import is_leaks
 from earthends.pairs import east_of, west_span
 from earthends.stretches import joined, stretch_of
 from helpers import (
-    CABLE, NO_CABLES, NO_DAYS, NOT_OF_TWO, ODD, WRONG_DAYS, Curve, all_steps, chance, day_by, frac, num, refused, small_cable,
-    small_leaks, some_cable, some_leaks, some_two, splice_steps,
+    CABLE, NO_CABLES, NO_DAYS, NOT_OF_TWO, ODD, WRONG_DAYS, Curve, chance, day_by, frac, num, refused, small_cable, some_cable,
+    some_leaks, some_two, splice_steps, two_at_splices,
 )
 
 LEAKS = (((0, 1), (1, 1)), ((10, 1), (2, 1)), ((21, 2), (3, 1)), ((15, 1), (4, 1)), ((35, 1), (5, 1)))
@@ -218,12 +218,8 @@ class CutsNeeded(unittest.TestCase):
 
     def test_leaks_at_ends_and_splices(self):
         rand = chance(56)
-        from earthends.days import day_of
         for _ in range(40):
-            cable = small_cable(rand, rand.randint(2, 5))
-            places = sorted(rand.sample([0, all_steps(cable)] + splice_steps(cable), 2))
-            drags = [drag for place, drag in small_leaks(rand, cable, 2)]
-            day = day_of(cable, tuple(((place, 1), drag) for place, drag in zip(places, drags)))
+            cable, places, day = two_at_splices(rand, 5)
             self.assertEqual(cuts_needed(cable, day), fewest_cuts(cable, Curve(cable, day)))
 
 

@@ -166,7 +166,9 @@ class Rows(unittest.TestCase):
 
 
 class Interface(unittest.TestCase):
-    METHODS = {"Story": "cut tell many leaks lengths"}
+    METHODS = {
+        "Story": "cut tell many leaks lengths", "Book": "enter strike mend back cable days telling clash",
+    }
 
     def test_methods_stand_in_their_own_class(self):
         found = {}
