@@ -129,3 +129,18 @@ def root(a):
     if top * top != a[0] or bottom * bottom != a[1]:
         return None
     return (top, bottom)
+
+
+def roots_of(square, single, free):
+    """The growing fractions w with square w w + single w + free = 0, where not all three are 0."""
+    if square == ZERO:
+        return [] if single == ZERO else [minus(ZERO, over(free, single))]
+    spread = root(minus(times(single, single), times((4, 1), times(square, free))))
+    if spread is None:
+        return []
+    twice = times((2, 1), square)
+    one = over(minus(minus(ZERO, single), spread), twice)
+    other = over(minus(spread, single), twice)
+    if one == other:
+        return [one]
+    return [one, other] if below(one, other) else [other, one]

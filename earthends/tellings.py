@@ -3,7 +3,7 @@
 from earthends.cables import is_place, need_cable, place_at
 from earthends.days import is_day, kind_of
 from earthends.errors import NoDays, NoPlaces
-from earthends.fractions import ZERO, below, is_up_to, minus, over, plus, root, times
+from earthends.fractions import below, is_up_to, minus, plus, roots_of, times
 from earthends.leaks import grow
 from earthends.pairs import curve_of, east_of, east_span, far_of, last_near, pair_at, west_of, west_span
 
@@ -67,21 +67,6 @@ def drags_by(cable, days, places):
     need_places(cable, places)
     drags = drags_on_all(cable, days, places)
     return None if None in drags else drags
-
-
-def roots_of(square, single, free):
-    """The growing fractions w with square w w + single w + free = 0, where not all three are 0."""
-    if square == ZERO:
-        return [] if single == ZERO else [minus(ZERO, over(free, single))]
-    spread = root(minus(times(single, single), times((4, 1), times(square, free))))
-    if spread is None:
-        return []
-    twice = times((2, 1), square)
-    one = over(minus(minus(ZERO, single), spread), twice)
-    other = over(minus(spread, single), twice)
-    if one == other:
-        return [one]
-    return [one, other] if below(one, other) else [other, one]
 
 
 def crossings(cable, day, other):

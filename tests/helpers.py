@@ -17,6 +17,28 @@ class Thing:
     pass
 
 
+class Same:
+    """Like everything, so that only its kind tells that it is nothing asked for."""
+
+    def __eq__(self, other):
+        return True
+
+    def __ne__(self, other):
+        return False
+
+    def __hash__(self):
+        return 0
+
+
+class Unlike:
+    """Not to be compared at all."""
+
+    def __eq__(self, other):
+        raise TypeError("compared")
+
+    __hash__ = None
+
+
 def nested(depth):
     x = 1
     for _ in range(depth):
@@ -230,6 +252,15 @@ def sound_day(cable):
     return (None, None, frac(num(cable[1]) + all_drag(cable)))
 
 
+# Cables of lengths that drag 10 each, by how many there are.
+EVEN = tuple((((10, (1, 1)),) * many, (0, 1)) for many in range(13))
+
+
+def day_with(cable, west, east, share):
+    """A day of two by WEST, EAST, and EARTH LACK."""
+    return day_by(cable, west, east, share / (all_drag(cable) - Fraction(west) - east))
+
+
 # Days of CABLE that no leaks make, and days that fewer than two make.
 WRONG_DAYS = (
     (None, None, (1, 1)), day_by(CABLE, 15, 16, 2), day_by(CABLE, 15, 15, 0), day_by(CABLE, -1, 15, 2), day_by(CABLE, 15, -1, 2),
@@ -296,3 +327,62 @@ def some_two(rand, most=6, lengths=None):
     """A cable, small, and a day of two, the leaks often at ends and splices."""
     cable = small_cable(rand, rand.randint(1, most) if lengths is None else lengths)
     return cable, day_of(cable, small_leaks(rand, cable, rand.choice((2, 2, 2, 3, 6))))
+
+
+def paths_of(x, path=()):
+    """All parts of tuples within tuples, by the way to each, the whole first."""
+    yield path, x
+    if type(x) is tuple:
+        for at, part in enumerate(x):
+            yield from paths_of(part, path + (at,))
+
+
+def put_at(x, path, part):
+    """x with another part at the end of this way."""
+    return replaced(x, path[0], put_at(x[path[0]], path[1:], part)) if path else part
+
+
+def spoiled_parts(part):
+    """What is never right where this part is: of another kind, with a part more, not in lowest terms, truths for numbers."""
+    if type(part) is tuple:
+        yield from (list(part), part + (None,), dict(enumerate(part)), frozenset(), str(part), None, 0, True, "", nested(10))
+        if len(part) == 2 and all(type(number) is int for number in part):
+            yield from ((2 * part[0], 2 * part[1]), (-part[0], -part[1]), (part[0], part[1], 1), part[:1], part[0])
+    elif type(part) is int:
+        yield from (None, str(part), (part,), [part], {}, -1 - part, b"", Thing(), bool(part), (part, 1))
+    elif type(part) is str:
+        yield from (None, part.upper(), part + " ", part.encode(), (part,), [part], "", 0, True, "other", {part: part})
+    else:
+        yield from (False, 0, "", "None", [], {}, (1, 0), (2, 4), [1, 1], (True, 1), Thing(), nested(10))
+
+
+def spoiled(x):
+    """x, each time with one part that is never right there."""
+    for path, part in paths_of(x):
+        for other in (*spoiled_parts(part), Same(), Unlike()):
+            yield put_at(x, path, other)
+
+
+def check_kinds(case, holds, claim, paper):
+    """A claim is taken with its paper, and with neither of them once a part of it is of another kind."""
+    case.assertIs(holds(claim, paper), True, (claim, paper))
+    for other in spoiled(claim):
+        case.assertIs(holds(other, paper), False, (other, paper))
+    for other in spoiled(paper):
+        case.assertIs(holds(claim, other), False, (claim, other))
+    for odd in ODD + ((), [], list(claim), (claim,), (claim, paper), claim[::-1], Same(), Unlike()):
+        case.assertIs(holds(odd, paper), False, odd)
+        case.assertIs(holds(odd, odd), False, odd)
+    for at in range(len(claim)):
+        case.assertIs(holds(claim[:at] + claim[at + 1:], paper), False)
+        case.assertIs(holds(claim[:at] + (claim[at],) + claim[at:], paper), False)
+        for other in range(at):
+            turned = replaced(replaced(claim, at, claim[other]), other, claim[at])
+            case.assertIs(holds(turned, paper), False, turned)
+        for odd in ODD:
+            if odd != claim[at]:
+                case.assertIs(holds(replaced(claim, at, odd), paper), False, (at, odd))
+    case.assertIs(holds(paper, claim), False)
+    case.assertIs(holds(claim, claim), False)
+    case.assertIs(holds(claim, (paper,)), False)
+    case.assertIs(holds(claim, paper), True)

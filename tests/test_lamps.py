@@ -4,18 +4,9 @@ from fractions import Fraction
 from earthends.days import day_of
 from earthends.lamps import lamp_needed, lamp_plan, ways_of
 from helpers import (
-    CABLE, NO_CABLES, NO_DAYS, NOT_OF_TWO, WRONG_DAYS, Curve, chance, day_by, refused, some_cable, some_leaks, some_two,
+    CABLE, EVEN, NO_CABLES, NO_DAYS, NOT_OF_TWO, WRONG_DAYS, Curve, chance, day_with, refused, some_cable, some_leaks, some_two,
     splice_steps, two_at_splices,
 )
-
-# Lengths that drag 10 each.
-EVEN = tuple((((10, (1, 1)),) * many, (0, 1)) for many in range(13))
-
-
-def day_with(cable, west, east, share):
-    """A day of two by WEST, EAST, and EARTH LACK."""
-    lack = sum(10 for _ in cable[0]) - Fraction(west) - east
-    return day_by(cable, west, east, share / lack)
 
 
 def answer_of(way, splice):

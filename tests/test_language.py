@@ -203,6 +203,17 @@ class Imports(unittest.TestCase):
                 self.assertIn(name, module_names(ast.Module(makers, [])), path.name)
         self.assert_no_circle(reached)
 
+    def test_the_checker_imports_the_first_four_stages_alone(self):
+        stages = {"fractions", "cables", "cabletexts", "leaks", "stretches", "measures"}
+        parts = {path.stem for path in FILES if path.stem.startswith("check")}
+        self.assertLessEqual({"checkleaks", "checkcuts", "checklamp", "checkdays"}, parts)
+        for path, _, tree in trees():
+            modules = {node.module.partition(".")[2] for node in ast.walk(tree) if isinstance(node, ast.ImportFrom)}
+            if path.stem in parts:
+                self.assertLessEqual(modules, stages | parts, path.name)
+            elif path.stem in stages:
+                self.assertLessEqual(modules, stages | {"errors"}, path.name)
+
     def assert_no_circle(self, reached):
         left = dict(reached)
         while left:
