@@ -77,13 +77,27 @@ def plan_of(bounds, splices, left):
     return (splice, west, both, east)
 
 
+def hard_ranges(needed):
+    """The growing (FIRST, LAST, CUTS) of all ranges that need CUTS, one at least, but fewer without either end."""
+    rows = []
+    for first, behind in needed:
+        cuts = needed[(first, behind)]
+        if cuts > 0 and needed[(first + 1, behind)] < cuts and needed[(first, behind - 1)] < cuts:
+            rows.append((first, behind - 1, cuts))
+    return tuple(sorted(rows))
+
+
 def lamp_of(cable, day):
-    """(CUTS, PLAN): how few cuts tell the way of a day of two, and a plan that needs no more."""
+    """(CUTS, PLAN, RANGES): how few cuts tell the way of a day of two, a plan that needs no more, and why no fewer do.
+
+    A way more in a range needs one cut more at most, so each range has a hard one within for each number of cuts up to
+    its own, and each cut of a hard range leaves one that needs one cut fewer, or more.
+    """
     ways = ways_of(cable, day)
     bounds = {splice: bounds_of(ways, splice) for splice in range(1, len(cable[0]))}
     needed, splices = cuts_of(ways, bounds)
     every = (0, len(ways))
-    return (needed[every], plan_of(bounds, splices, every))
+    return (needed[every], plan_of(bounds, splices, every), hard_ranges(needed))
 
 
 def lamp_needed(cable, day):
