@@ -1,6 +1,7 @@
 import unittest
 from fractions import Fraction
 
+from earthends.cables import steps_of
 from earthends.checker import holds
 from earthends.cutting import cover_of, cuts_needed
 from earthends.days import day_of, kind_of
@@ -123,6 +124,20 @@ class Lamp(Papers):
                         most = max(most, self.check(EVEN[12], day))
                         self.assertLessEqual(len(ways_of(EVEN[12], day)), 12)
         self.assertGreater(most, 3)
+
+
+class OnePair(Papers):
+    def test_leaks_at_both_ends(self):
+        # EARTH LACK is all of WEST EAST, so that no other pair makes the day.
+        for cable, needed in ((EVEN[1], 0), (EVEN[2], 1), (EVEN[12], 1), (CABLE, 1)):
+            leaks = (((0, 1), (5, 2)), ((steps_of(cable), 1), (7, 1)))
+            day = day_of(cable, leaks)
+            places, drags = zip(*leaks)
+            self.assertEqual(self.taken(paper_day(cable, day)), (("pair", cable, day, places), drags))
+            claim, paper = self.taken(paper_cuts(cable, day))
+            self.assertEqual((claim[3], paper[1]), (needed, ((0, 1),) * needed))
+            self.assertEqual(self.taken(paper_lamp(cable, day)), (("lamp", cable, day, 0), ((), ())))
+            self.assertEqual(self.taken(paper_days(cable, (day,))), (("fits", cable, (day,), places), (drags,)))
 
 
 class RefusedOfTwo(unittest.TestCase):

@@ -140,7 +140,7 @@ class Stories(unittest.TestCase):
             cable = small_cable(rand, rand.randint(2, 12))
             day = day_of(cable, small_leaks(rand, cable, rand.randint(2, 6)))
             curve = Curve(cable, day)
-            for x in rand.sample(curve.samples(), 2):
+            for x in rand.choices(curve.samples(), k=2):
                 leaks = curve.leaks(x)
                 story, piece = Story(cable, day), (0, len(cable[0]))
                 while story.cut() is not None:
